@@ -1,0 +1,1 @@
+"""Pacehall: views of one flat floor."""
