@@ -32,6 +32,23 @@ WORDS = re.compile(
     r"|NamedTuple|TypedDict|TYPE_CHECKING|abstractmethod)\b|dataclass|overload|contextmanager"
 )
 UNUSED = "register mro elements open input version_info with_traceback add_note format format_map".split()
+NO_NAMES = (
+    "attrgetter breakpoint builtins compile copyright credits delattr dir eval exec exit gc getattr globals hasattr "
+    "help id importlib license locals methodcaller os quit setattr super type vars sys __name__"
+).split()
+WALKS = "zip enumerate reversed range".split()
+WALK_METHODS = "items keys values".split()
+WALKERS = "list tuple dict sorted sum any all enumerate zip".split()
+KEYWORDS = {
+    "sorted": ["key", "reverse"], "min": ["key", "default"], "max": ["key", "default"], "sum": ["start"],
+    "enumerate": ["start"], "zip": ["strict"],
+}
+VALUES = (
+    "items keys values pop update append clear extend insert remove reverse setdefault sort args encode format"
+).split()
+FREE_VALUES = "count index title find get join lower upper split strip copy add".split()
+TAKEN = {name for kind in [str, int, list, dict, set, frozenset, bytes, tuple] for name in dir(kind)}
+TAKEN_ALONE = ["ValueError", "LookupError", "IndexError"]
 
 
 def is_docstring(tree, node):
@@ -109,6 +126,11 @@ def value_faults(node, line):
             faults.append(f"L27 row {line}")
     if isinstance(node, ast.Div):
         faults.append("L7 /")
+    if isinstance(node, ast.FormattedValue):
+        if not isinstance(node.value, ast.Name) or node.format_spec or node.conversion not in (-1, ord("r")):
+            faults.append(f"L7 row {line}")
+    if isinstance(node, ast.Set) and len(node.elts) > 2:
+        faults.append(f"L13 row {line}")
     if isinstance(node, ast.BinOp) and isinstance(node.op, ast.Pow):
         if not (isinstance(node.right, ast.Constant) and 0 <= node.right.value <= 64):
             faults.append(f"L27 ** in row {line}")
@@ -121,6 +143,155 @@ def value_faults(node, line):
         faults.append(f"L6 target in row {line}")
     if isinstance(node, (ast.For, ast.While)) and node.orelse or isinstance(node, ast.Try) and node.finalbody:
         faults.append(f"L6 row {line}")
+    return faults
+
+
+def is_call_of(node, names):
+    return isinstance(node, ast.Call) and isinstance(node.func, ast.Name) and node.func.id in names
+
+
+def is_walk(node):
+    if is_call_of(node, WALKS):
+        return True
+    return isinstance(node, ast.Call) and isinstance(node.func, ast.Attribute) and node.func.attr in WALK_METHODS
+
+
+def stands_walked(node, above):
+    if isinstance(above, (ast.For, ast.comprehension)):
+        return node is above.iter
+    if is_call_of(above, ["zip"]):
+        return node in above.args
+    if is_call_of(above, WALKERS):
+        return node is above.args[0]
+    if is_call_of(above, ["min", "max"]):
+        return above.args == [node]
+    return isinstance(above, ast.Call) and isinstance(above.func, ast.Attribute) and above.func.attr == "join"
+
+
+def is_set(node):
+    return isinstance(node, ast.Set) or is_call_of(node, ["set", "frozenset"])
+
+
+def stands_as_set(node, above, parents):
+    while isinstance(above, ast.BinOp):
+        node, above = above, parents[above]
+    if isinstance(above, ast.Compare):
+        return True
+    return is_call_of(above, ["sorted", "len"]) and not above.keywords
+
+
+def stands_as_class(node, above, parents):
+    if isinstance(above, ast.Call):
+        return node is above.func or is_call_of(above, ["isinstance"])
+    if isinstance(above, ast.Tuple):
+        return stands_as_class(above, parents[above], parents)
+    if isinstance(above, ast.Attribute):
+        return above.attr == "__init__"
+    return isinstance(above, (ast.ClassDef, ast.ExceptHandler, ast.Raise))
+
+
+def placed_faults(tree, classes):
+    parents = {child: node for node in ast.walk(tree) for child in ast.iter_child_nodes(node)}
+    faults = []
+    for node, above in parents.items():
+        line = getattr(node, "lineno", 0)
+        if is_walk(node) and not stands_walked(node, above):
+            faults.append(f"L23 row {line}")
+        if is_set(node) and not stands_as_set(node, above, parents):
+            faults.append(f"L24 row {line}")
+        if isinstance(node, ast.Name) and node.id in classes and not stands_as_class(node, above, parents):
+            faults.append(f"L18 {node.id} in row {line}")
+        if isinstance(node, ast.Attribute) and node.attr in METHODS and isinstance(node.ctx, ast.Load):
+            if not (isinstance(above, ast.Call) and node is above.func):
+                faults.append(f"L25 {node.attr} in row {line}")
+    return faults
+
+
+def call_faults(tree):
+    faults = []
+    for node in ast.walk(tree):
+        if not isinstance(node, ast.Call):
+            continue
+        name = node.func.id if isinstance(node.func, ast.Name) else getattr(node.func, "attr", "")
+        for keyword in node.keywords:
+            known = name in BUILTINS or name in METHODS
+            if known and keyword.arg not in KEYWORDS.get(name, []):
+                faults.append(f"L22 {name} {keyword.arg}")
+    return faults
+
+
+def walked_names(node):
+    if isinstance(node, ast.Call) and is_walk(node):
+        inner = [node.func.value] if isinstance(node.func, ast.Attribute) else node.args
+        return [name for part in inner for name in walked_names(part)]
+    return [ast.dump(node)] if isinstance(node, (ast.Name, ast.Attribute)) else []
+
+
+CHANGES = "append clear extend insert pop remove reverse setdefault update".split()
+
+
+def changed_walk_faults(tree):
+    faults = []
+    for loop in ast.walk(tree):
+        if not isinstance(loop, ast.For):
+            continue
+        walked = walked_names(loop.iter)
+        for node in [node for part in loop.body for node in ast.walk(part)]:
+            changed = None
+            if isinstance(node, ast.Subscript) and isinstance(node.ctx, ast.Store):
+                changed = node.value
+            if isinstance(node, ast.Call) and isinstance(node.func, ast.Attribute) and node.func.attr in CHANGES:
+                changed = node.func.value
+            if changed is not None and ast.dump(changed) in walked:
+                faults.append(f"L23 changed in row {node.lineno}")
+    return faults
+
+
+def error_faults(tree):
+    faults = []
+    for node in ast.walk(tree):
+        if isinstance(node, ast.ExceptHandler):
+            kinds = node.type.elts if isinstance(node.type, ast.Tuple) else [node.type]
+            names = [kind.id if isinstance(kind, ast.Name) else "" for kind in kinds]
+            bad = [name for name in names if name in TAKEN_ALONE + ["", "Exception", "TypeError"]]
+            faults += [f"L19 {name} in row {node.lineno}" for name in bad]
+        if isinstance(node, ast.Raise) and not isinstance(node.exc, ast.Call):
+            faults.append(f"L19 row {node.lineno}")
+    return faults
+
+
+def bound_faults(tree):
+    fixed = [node.name for node in tree.body if isinstance(node, ast.ClassDef)]
+    fixed += [part.asname or part.name for row in drawn(tree) for part in row.names]
+    faults = []
+    for node in ast.walk(tree):
+        name = node.arg if isinstance(node, ast.arg) else None
+        if isinstance(node, ast.Name) and isinstance(node.ctx, ast.Store):
+            name = node.id
+        if name in fixed:
+            faults.append(f"L15 {name} in row {node.lineno}")
+        if isinstance(node, ast.Name) and node.id in NO_NAMES:
+            faults.append(f"L17 {node.id} in row {node.lineno}")
+    for node in tree.body:
+        if isinstance(node, ast.Assign) and isinstance(node.value, (ast.List, ast.Dict)):
+            inner = [part for part in ast.walk(node.value) if isinstance(part, (ast.List, ast.Dict, ast.Set))]
+            faults += [f"L15 row {node.lineno}"] if len(inner) > 1 else []
+    return faults
+
+
+def member_faults(tree):
+    faults = []
+    for node in ast.walk(tree):
+        if isinstance(node, ast.ClassDef):
+            names = [part.name for part in node.body if isinstance(part, ast.FunctionDef)]
+            faults += [f"L18 {name} twice" for name in set(names) if names.count(name) > 1]
+            free = METHODS + DUNDERS + ["add", "discard"]
+            faults += [f"L26 {name}" for name in names if name in TAKEN and name not in free]
+        if isinstance(node, ast.Attribute) and isinstance(node.ctx, ast.Store):
+            if node.attr in VALUES or (node.attr in TAKEN and node.attr not in FREE_VALUES):
+                faults.append(f"L26 {node.attr} in row {node.lineno}")
+            if not isinstance(node.value, ast.Name):
+                faults.append(f"L18 row {node.lineno}")
     return faults
 
 
@@ -141,9 +312,15 @@ def drawn(tree):
     return [node for node in ast.walk(tree) if isinstance(node, ast.ImportFrom)]
 
 
-def file_faults(text, own=()):
+def class_names(tree):
+    return [node.name for node in ast.walk(tree) if isinstance(node, ast.ClassDef)]
+
+
+def file_faults(text, own=(), classes=()):
     tree = ast.parse(text)
     faults = text_faults(text) + top_faults(tree)
+    faults += placed_faults(tree, list(classes) + class_names(tree)) + call_faults(tree) + changed_walk_faults(tree)
+    faults += error_faults(tree) + bound_faults(tree) + member_faults(tree)
     for node in ast.walk(tree):
         faults += node_faults(tree, node, own)
     return faults
@@ -164,9 +341,10 @@ class LanguageTest(unittest.TestCase):
     def test_each_file(self):
         nodes = [node for tree in self.trees.values() for node in ast.walk(tree)]
         own = {node.name for node in nodes if isinstance(node, ast.FunctionDef)}
+        classes = {name for tree in self.trees.values() for name in class_names(tree)}
         for name, text in self.texts.items():
             with self.subTest(file=name):
-                self.assertEqual([], file_faults(text, own))
+                self.assertEqual([], file_faults(text, own, classes))
 
     def test_imports_come_from_the_file_that_defines_the_name(self):
         for name, tree in self.trees.items():
@@ -200,6 +378,14 @@ class LanguageTest(unittest.TestCase):
             "def f(n):\n    return 2 ** n\n", "def f(x):\n    x.sort()\n", "class A:\n    x = 1\n", "x = 1\nx = 2\n",
             "def f(x):\n    return {y for y in x}\n", "def f(x):\n    assert x\n", "x = '%'\n", "# " + "x" * 119 + "\n",
             "def f(x):\n" + "    x = 1\n" * 40, "print(1)\n", "def f(x):\n    'words'\n",
+            "def f(x):\n    y = range(x)\n    return y\n", "def f(x):\n    return x.items()\n",
+            "def f(x):\n    y = set(x)\n    return y\n", "def f(x):\n    for y in set(x):\n        pass\n",
+            "def f(x):\n    for y in x:\n        x.append(y)\n", "def f(x):\n    for y in x:\n        x[y] = 1\n",
+            "class A:\n    pass\n\n\ndef f():\n    return A\n", "class A:\n    def sort(self):\n        pass\n",
+            "class A:\n    def f(self):\n        self.values = 1\n", "X = [[1]]\n", "def f(x):\n    return x.append\n",
+            "def f(x):\n    try:\n        f(x)\n    except ValueError:\n        pass\n",
+            "def f(x):\n    return sorted(x, lambda y: y, foo=1)\n", "def f(x):\n    return f'{x.y}'\n",
+            "from pacehall.views import View\n\n\ndef f(View):\n    return 1\n", "def f(e):\n    raise e\n",
         ]:
             with self.subTest(text=text):
                 self.assertNotEqual([], file_faults(text))
