@@ -1,5 +1,6 @@
 """Whole floors, and what is asked of views beside their own cells."""
 
+from pacehall.errors import NoPair
 from pacehall.places import count_of, paces_of, place_at
 from pacehall.views import View
 
@@ -20,3 +21,8 @@ def has_twice(view):
             return (place_at(view.sizes(), seen[cell]), place_at(view.sizes(), number))
         seen[cell] = number
     return None
+
+
+def refuse_rooms(one, other):
+    if one.room != other.room:
+        raise NoPair("the views are of floors of unlike rooms")

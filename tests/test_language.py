@@ -159,8 +159,6 @@ def is_walk(node):
 def stands_walked(node, above):
     if isinstance(above, (ast.For, ast.comprehension)):
         return node is above.iter
-    if is_call_of(above, ["zip"]):
-        return node in above.args
     if is_call_of(above, WALKERS):
         return node is above.args[0]
     if is_call_of(above, ["min", "max"]):
