@@ -39,6 +39,14 @@ def all_places(sizes):
     return list(itertools.product(*[range(size) for size in sizes]))
 
 
+# Every order of loops of so many axes, both ways along each.
+def all_orders(many):
+    return [
+        list(zip(axes, ways))
+        for axes in itertools.permutations(range(many)) for ways in itertools.product([1, -1], repeat=many)
+    ]
+
+
 # The document's sum, cell by cell, of the axes alone.
 def cells_by_sum(view):
     return [
@@ -73,6 +81,36 @@ def draw_view_in(rng, room, sizes=None, paces=None):
     while view is None:
         view = draw_view(rng, sizes, paces, room)
     return view
+
+
+# Paces by which no cell comes twice: each axis steps over all that lies below it, in drawn order and either way.
+def draw_grid(rng, sizes):
+    paces = [0] * len(sizes)
+    pace = rng.choice([1, 1, 2])
+    for axis in rng.sample(range(len(sizes)), len(sizes)):
+        paces[axis] = pace * rng.choice([1, 1, -1])
+        pace *= sizes[axis] + rng.choice([0, 0, 1, 2])
+    return list(zip(sizes, paces))
+
+
+# So that its least cell is the one told.
+def laid(room, least, axes):
+    return View(room, least - sum(min(0, (size - 1) * pace) for size, pace in axes), axes)
+
+
+# Two views of one floor and of the same sizes, the first of which has no cell twice; often they lie near one another.
+def draw_pair(rng, most_axes=3):
+    sizes = [rng.choice([1, 2, 2, 3, 4]) for axis in range(rng.randint(0, most_axes))]
+    axes = draw_grid(rng, sizes)
+    room = 200 + sum(abs(pace) * (size - 1) for size, pace in axes)
+    to = laid(room, 100, axes)
+    if rng.random() < 0.2:
+        return to, draw_view_in(rng, room, sizes, range(-5, 6))
+    if rng.random() < 0.2:
+        return to, laid(room, 100 + rng.randint(-2, 2), draw_grid(rng, sizes))
+    other = [(size, pace * rng.choice([1, 1, 1, 1, -1])) for size, pace in axes]
+    steps = [0, 1, -1] + [pace * rng.choice([1, -1]) for size, pace in axes] * 2
+    return to, laid(room, 100 + sum(rng.sample(steps, rng.randint(1, 2))), other)
 
 
 def draw_axis(rng, sizes):
