@@ -9,6 +9,7 @@ from pacehall.cuts import Cut, Diagonal, Window
 from pacehall.errors import NoMove, NoPlace, TooMany
 from pacehall.floors import whole
 from pacehall.moves import Fresh, Move, Pick, Slice, Spread, Turn
+from pacehall.statements import Copy, Fill, Raise, Statement, Swap
 from pacehall.views import View
 
 SIXTY = 10 ** 60 - 1
@@ -111,6 +112,15 @@ def draw_pair(rng, most_axes=3):
     other = [(size, pace * rng.choice([1, 1, 1, 1, -1])) for size, pace in axes]
     steps = [0, 1, -1] + [pace * rng.choice([1, -1]) for size, pace in axes] * 2
     return to, laid(room, 100 + sum(rng.sample(steps, rng.randint(1, 2))), other)
+
+
+def draw_statement(rng, room):
+    sizes = [rng.randint(1, 3) for axis in range(rng.randint(0, 2))]
+    one, other = draw_view_in(rng, room, sizes, range(-4, 5)), draw_view_in(rng, room, sizes[::-1], range(-4, 5))
+    return rng.choice([
+        Statement(), Fill(one, rng.randint(-9, 9)), Fill(one, rng.randint(-9, 9)), Copy(one, other), Copy(one, other),
+        Swap(one, other), Raise(one, other),
+    ])
 
 
 def draw_axis(rng, sizes):
