@@ -12,7 +12,8 @@ def refuse_twice(view):
         raise Twice(found[0], found[1])
 
 
-# By each cell that the first view has: the place there, where what is written is a new value.
+# By each cell that the first view has: the place there, where what is written is a new value. So it is never the
+# place at which the second view has that cell.
 def places_written_anew(to, source, spots):
     found = {}
     for place, cell, origin in zip(spots, to.cells(), source.cells()):
@@ -29,6 +30,6 @@ def bound_pairs(to, source):
     written = places_written_anew(to, source, spots)
     found = []
     for place, cell in zip(spots, source.cells()):
-        if cell in written and written[cell] != place:
+        if cell in written:
             found.append((written[cell], place))
     return found

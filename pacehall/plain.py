@@ -19,7 +19,7 @@ def plain(view):
     return plain_axes(view.axes)
 
 
-# Of plain forms of one count: the number at which they part, with one first cell; None where they don't.
+# Of plain forms of one count, with one first cell: the least number at which they part; None where they don't.
 # The lesser of two sizes is followed by another axis, whose pace, the form being plain, doesn't go on as before.
 def forms_part_at(one, other):
     unit = 1

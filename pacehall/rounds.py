@@ -60,12 +60,8 @@ def chain(statements):
     return told
 
 
-# All are of one room by then, and none is too long: where no view's room is refused, none is refused later on.
+# All are of one room by then, and none is too long: if any is refused, the first one with a view is, ahead of all.
 def run_all(store, statements):
-    told = rounds(statements)
-    for statement in statements:
-        for view in views_of(statement):
-            store.refuse_room(view)
-    for numbers in told:
+    for numbers in rounds(statements):
         for number in numbers:
             statements[number].run(store)

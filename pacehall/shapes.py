@@ -23,30 +23,8 @@ def axes_by_first_steps(view, sizes):
     return axes
 
 
-def with_number(place, axis, number):
-    return place[:axis] + (number,) + tuple([0] * (len(place) - axis - 1))
-
-
-# At this place the cell is not the one that the axes tell, at the first place of all it is. On the way from there to
-# here, axis by axis, it goes wrong somewhere, and the step that does it is looked for by halving.
-def fault_on_the_way(view, sizes, axes, place):
-
-    def strays(there):
-        by_axes = sum([number * axis[1] for number, axis in zip(there, axes)])
-        return view.cell_at(number_of(sizes, there)) != view.first + by_axes
-
-    axis = 0
-    while not strays(with_number(place, axis, place[axis])):
-        axis = axis + 1
-    good = 0
-    bad = place[axis]
-    while bad - good > 1:
-        middle = (good + bad) // 2
-        if strays(with_number(place, axis, middle)):
-            bad = middle
-        else:
-            good = middle
-    return (with_number(place, axis, bad), axis)
+def last_axis_moved(place):
+    return max([axis for axis, number in enumerate(place) if number > 0])
 
 
 def shaped(view, sizes):
@@ -55,8 +33,10 @@ def shaped(view, sizes):
     number = forms_part_at(plain(view), plain_axes(axes))
     if number is None:
         return View(view.room, view.first, axes)
-    fault = fault_on_the_way(view, sizes, axes, place_at(sizes, number))
-    raise NoShape(fault[0], fault[1])
+    # The number is the least one at which the view and these axes part. One step back along any axis they don't yet,
+    # so it is that step which goes wrong.
+    place = place_at(sizes, number)
+    raise NoShape(place, last_axis_moved(place))
 
 
 def is_fault(view, sizes, place, axis):

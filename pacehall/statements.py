@@ -5,6 +5,11 @@ from pacehall.places import refuse_long
 from pacehall.stores import refuse_count
 
 
+def refuse_two(one, other):
+    refuse_rooms(one, other)
+    refuse_count(one, other.count())
+
+
 class Statement:
 
     def writes(self):
@@ -33,8 +38,7 @@ class Fill(Statement):
 class Copy(Statement):
 
     def __init__(self, to, source):
-        refuse_rooms(to, source)
-        refuse_count(to, source.count())
+        refuse_two(to, source)
         self.to = to
         self.source = source
 
@@ -52,8 +56,7 @@ class Copy(Statement):
 class Swap(Statement):
 
     def __init__(self, one, other):
-        refuse_rooms(one, other)
-        refuse_count(one, other.count())
+        refuse_two(one, other)
         self.one = one
         self.other = other
 
@@ -73,8 +76,7 @@ class Swap(Statement):
 class Raise(Statement):
 
     def __init__(self, to, source):
-        refuse_rooms(to, source)
-        refuse_count(to, source.count())
+        refuse_two(to, source)
         self.to = to
         self.source = source
 

@@ -4,8 +4,8 @@ from pacehall.errors import NoPlace, NoView
 from pacehall.numbers import is_whole
 from pacehall.places import count_of, is_place, place_at, refuse_long
 
-MOST_ROOM = 10 ** 18
-MOST_SIZE = 10 ** 9
+MOST_ROOM = 1_000_000_000_000_000_000
+MOST_SIZE = 1_000_000_000
 MOST_AXES = 8
 
 

@@ -118,6 +118,10 @@ class NoRowTest(DeskCase):
             "share a a 1000", "rows", "rows a", "rows a a a", "order", "order a", "order a a a",
         ]:
             self.no_row(row)
+        for row in ["drop a", "names", "plain a", "read a", "fill a 1", "copy a a", "swap a a", "raise a a", "back",
+                    "share a a", "rows a a", "order a a"]:
+            self.no_row(row + " 5")
+            self.no_row(row + " a")
 
     def test_words_that_write_no_number(self):
         for word in NO_NUMBER_WORDS:

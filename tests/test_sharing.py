@@ -278,6 +278,16 @@ class IsApartTest(Case):
         self.says(False, [("low",)])
         self.says(False, [("high",)])
 
+    # The least sum or the greatest one is just the goal: that ends nothing.
+    def test_sums_that_are_the_goal(self):
+        point, row = View(30, 4, []), View(30, 4, [(3, 2)])
+        for one, other in [(point, point), (point, row), (row, point), (View(30, 8, [(3, -2)]), row)]:
+            for step in [("low",), ("high",), ("rest", 2), ("rest", 3)]:
+                self.assertIs(False, is_apart(one, other, [step]))
+        apart = View(30, 5, [])
+        self.assertIs(True, is_apart(apart, point, [("low",)]))
+        self.assertIs(True, is_apart(point, apart, [("high",)]))
+
     def test_no_case_left_for_a_step(self):
         for step in [("low",), ("high",), ("part", 0, 0), ("rest", 2)]:
             self.says(False, self.paper + [step])
